@@ -1,0 +1,1 @@
+"""Wraptime: counters that go round."""
