@@ -39,6 +39,6 @@ class Case(unittest.TestCase):
         """Assert that two values are equal and of the same kind, throughout."""
         self.assertEqual(told, wanted)
         self.assertIs(type(told), type(wanted))
-        if isinstance(wanted, tuple):
+        if isinstance(wanted, (tuple, list)):
             for one, other in zip(told, wanted):
                 self.same(one, other)

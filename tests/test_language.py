@@ -1,6 +1,7 @@
 """What can be read off the sources: the files of the package, their sizes, signs and imports."""
 
 import ast
+import builtins
 import pathlib
 import unittest
 
@@ -40,6 +41,18 @@ class Sources(unittest.TestCase):
                 if isinstance(node, ast.ImportFrom) and not node.module.startswith("wraptime."):
                     names = {alias.name for alias in node.names}
                     self.assertLessEqual(names, ALLOWED.get(node.module, set()), name)
+
+    def test_names_mean_one_thing(self):
+        for name, text in sources():
+            tree = ast.parse(text)
+            nodes = list(ast.walk(tree))
+            imports = [alias.name for node in nodes if isinstance(node, ast.ImportFrom) for alias in node.names]
+            bound = [node.id for node in nodes if isinstance(node, ast.Name) and isinstance(node.ctx, ast.Store)]
+            bound += [node.arg for node in nodes if isinstance(node, ast.arg)]
+            defined = [node.name for node in tree.body if isinstance(node, (ast.FunctionDef, ast.ClassDef))]
+            self.assertEqual(set(bound) & set(imports + defined), set(), name)
+            self.assertEqual(set(bound + defined + imports) & set(dir(builtins)), set(), name)
+            self.assertEqual(set(defined) & set(imports), set(), name)
 
     def test_strings_and_floats(self):
         for name, text in sources():
